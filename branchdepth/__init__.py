@@ -1,0 +1,1 @@
+"""Branchdepth: polynomials parted by a prime."""
