@@ -1,4 +1,4 @@
-"""The part of Python that the package keeps to: those rules of LANGUAGE.md that a walk through its trees can see."""
+"""The part of Python that the package keeps to: some rules of LANGUAGE.md, those easily seen, not all."""
 
 import ast
 import builtins
