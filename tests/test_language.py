@@ -133,10 +133,41 @@ def wrong_form(node):
                 yield f"L20 {at}: is"
 
 
+def wrong_locals(tree):
+    """L15: no parameter, local or inner def is called like an import or a class of its file."""
+    taken = {row.name for row in tree.body if isinstance(row, ast.ClassDef)}
+    for row in tree.body:
+        if isinstance(row, ast.ImportFrom):
+            taken |= {name.asname or name.name for name in row.names}
+    for node in ast.walk(tree):
+        given = set()
+        if isinstance(node, ast.arg):
+            given = {node.arg}
+        elif isinstance(node, ast.Name) and not isinstance(node.ctx, ast.Load):
+            given = {node.id}
+        elif isinstance(node, ast.FunctionDef) and node not in tree.body:
+            given = {node.name}
+        if given & taken and not is_method(tree, node):
+            yield f"L15 {node.lineno}: {sorted(given & taken)} is an import or a class of the file"
+
+
+def is_method(tree, node):
+    return any(node in row.body for row in tree.body if isinstance(row, ast.ClassDef))
+
+
+def draws_in_rings(draws):
+    """L16: the files that draw from themselves, in whatever many steps."""
+    reached = {name: set(others) for name, others in draws.items()}
+    for turn in draws:
+        for name, others in reached.items():
+            reached[name] = others.union(*(reached.get(other, set()) for other in others))
+    return sorted(name for name, others in reached.items() if name in others)
+
+
 def wrong_in(source, is_own, own=()):
     """All that is seen to be outside the rules in one file's text."""
     tree = ast.parse(source)
-    found = list(wrong_in_text(source)) + list(wrong_at_top(tree, is_own))
+    found = list(wrong_in_text(source)) + list(wrong_at_top(tree, is_own)) + list(wrong_locals(tree))
     for node in ast.walk(tree):
         found += list(wrong_form(node)) + list(wrong_names(node, own))
         if isinstance(node, ast.FunctionDef):
@@ -184,6 +215,13 @@ class LanguageTest(unittest.TestCase):
             with self.subTest(path.name):
                 self.assertEqual(wrong_in(path.read_text(encoding="utf-8"), is_own, methods), [])
 
+    def test_no_files_draw_from_one_another(self):
+        draws = {}
+        for path in package_files():
+            tree = ast.parse(path.read_text(encoding="utf-8"))
+            draws[f"branchdepth.{path.stem}"] = {row.module for row in tree.body if isinstance(row, ast.ImportFrom)}
+        self.assertEqual(draws_in_rings(draws), [])
+
 
 OUTSIDE = (
     "import math", "from math import gcd", "from .errors import NoRow", "def a():\n    from b import c", "a = 1\na = 2",
@@ -197,6 +235,7 @@ OUTSIDE = (
     "A = '" + "x" * 120 + "'", "\n" * 401, "def a():\n" + "    pass\n" * 40,
     "def a():\n    try:\n        pass\n    except Exception:\n        pass",
     "def a():\n    try:\n        pass\n    except:\n        pass",
+    "class A:\n    pass\n\n\ndef b(A):\n    return A", "class A:\n    pass\n\n\ndef b(c):\n    A = c\n    return A",
 )
 
 
@@ -205,6 +244,14 @@ class OutsideTest(unittest.TestCase):
         for source in OUTSIDE:
             with self.subTest(source[:60]):
                 self.assertNotEqual(wrong_in(source, lambda module, names: False), [])
+
+    def test_rings_are_seen(self):
+        self.assertEqual(draws_in_rings({"a": {"b"}, "b": {"c"}, "c": {"a"}, "d": {"a"}}), ["a", "b", "c"])
+        self.assertEqual(draws_in_rings({"a": {"b", "c"}, "b": {"c"}, "c": set()}), [])
+
+    def test_locals_called_like_imports_are_seen(self):
+        source = "from branchdepth.a import b\n\n\ndef c(b):\n    return b\n"
+        self.assertNotEqual(wrong_in(source, lambda module, names: True), [])
 
     def test_what_is_inside_is_let_by(self):
         source = '"""A file."""\n\nA = (1, 2)\n\n\ndef b(c):\n    return [d ** 2 for d in c if d is not None]\n'
