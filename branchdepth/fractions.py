@@ -43,3 +43,12 @@ def is_less(u, v):
     """Whether u is less than v."""
     # Bottoms are above 0, so the crosswise products stand in the order of the fractions.
     return u[0] * v[1] < v[0] * u[1]
+
+
+def least(some):
+    """The least of a list of one fraction or more."""
+    told = some[0]
+    for u in some:
+        if is_less(u, told):
+            told = u
+    return told

@@ -28,8 +28,8 @@ def coefficient(f, place):
 
 def added(f, g):
     """The sum of two polynomials."""
-    places = range(max(len(f), len(g)))
-    return without_noughts_behind([coefficient(f, at) + coefficient(g, at) for at in places])
+    many = max(len(f), len(g))
+    return without_noughts_behind([coefficient(f, at) + coefficient(g, at) for at in range(many)])
 
 
 def scaled(k, f):

@@ -14,6 +14,14 @@ def is_prime(k):
     return is_whole(k) and k in PRIMES
 
 
+def number_power(k, n):
+    """A whole number to the power of n, from 0 on."""
+    told = 1
+    for turn in range(n):
+        told = told * k
+    return told
+
+
 def taken_out(k, p):
     """How often p goes into k, not 0, and what is left of k then."""
     size = 0

@@ -164,10 +164,40 @@ def draws_in_rings(draws):
     return sorted(name for name, others in reached.items() if name in others)
 
 
+WALKED = {"range", "zip", "enumerate", "reversed", "items", "keys", "values"}
+WALKERS = {"list", "tuple", "dict", "sorted", "sum", "any", "all", "enumerate", "zip", "bytes", "min", "max", "join"}
+
+
+def called(node):
+    """How what is called is named, None where it has no name or nothing is called."""
+    if not isinstance(node, ast.Call):
+        return None
+    return getattr(node.func, "id", getattr(node.func, "attr", None))
+
+
+def is_walked_at_once(node, parent):
+    if isinstance(parent, (ast.For, ast.comprehension)):
+        return parent.iter is node
+    if isinstance(parent, ast.Compare):
+        return called(node) in {"range", "keys"} and isinstance(parent.ops[0], (ast.In, ast.NotIn))
+    if called(parent) in {"reversed", "len"}:
+        return called(node) == "range"
+    return called(parent) in WALKERS and parent.args[:1] == [node]
+
+
+def wrong_walks(tree):
+    """L23: what is walked on the spot is not kept."""
+    for parent in ast.walk(tree):
+        for node in ast.iter_child_nodes(parent):
+            if called(node) in WALKED and not is_walked_at_once(node, parent):
+                yield f"L23 {node.lineno}: {called(node)} that is not walked on the spot"
+
+
 def wrong_in(source, is_own, own=()):
     """All that is seen to be outside the rules in one file's text."""
     tree = ast.parse(source)
     found = list(wrong_in_text(source)) + list(wrong_at_top(tree, is_own)) + list(wrong_locals(tree))
+    found += list(wrong_walks(tree))
     for node in ast.walk(tree):
         found += list(wrong_form(node)) + list(wrong_names(node, own))
         if isinstance(node, ast.FunctionDef):
@@ -227,7 +257,8 @@ OUTSIDE = (
     "import math", "from math import gcd", "from .errors import NoRow", "def a():\n    from b import c", "a = 1\na = 2",
     "print(1)", "def a(*b):\n    pass", "def a(**b):\n    pass", "@a\ndef b():\n    pass", "def a(min):\n    pass",
     "def a(b):\n    min = b", "def a(b):\n    return b / 2", "def a():\n    return 0.5", "def a(b):\n    return 2 ** b",
-    "def a(b):\n    b **= b", "def a(b):\n    yield b", "def a(b):\n    return sum(c for c in b)", "def _a():\n    pass",
+    "def a(b):\n    b **= b", "def a(b):\n    yield b", "def a(b):\n    return sum(c for c in b)",
+    "def _a():\n    pass",
     "def a(b):\n    return b is 3", "def a(b):\n    return (b := 3)", "def a(b):\n    with b:\n        pass",
     "def a(b):\n    for c in b:\n        pass\n    else:\n        pass", "def a(b):\n    return pow(b, 2)",
     "def a(b):\n    return f'{b:3}'", "def a():\n    return '%'", "def a(b):\n    return [*b]", "A = 'type'",
@@ -235,6 +266,9 @@ OUTSIDE = (
     "A = '" + "x" * 120 + "'", "\n" * 401, "def a():\n" + "    pass\n" * 40,
     "def a():\n    try:\n        pass\n    except Exception:\n        pass",
     "def a():\n    try:\n        pass\n    except:\n        pass",
+    "def a(b):\n    c = range(b)\n    return list(c)", "def a(b):\n    return zip(b, b)",
+    "def a(b):\n    return len(zip(b, b))",
+    "def a(b):\n    return b.items()", "def a(b):\n    return sum([], range(b))",
     "class A:\n    pass\n\n\ndef b(A):\n    return A", "class A:\n    pass\n\n\ndef b(c):\n    A = c\n    return A",
 )
 
@@ -255,6 +289,8 @@ class OutsideTest(unittest.TestCase):
 
     def test_what_is_inside_is_let_by(self):
         source = '"""A file."""\n\nA = (1, 2)\n\n\ndef b(c):\n    return [d ** 2 for d in c if d is not None]\n'
+        self.assertEqual(wrong_in(source, lambda module, names: False), [])
+        source = "def a(b):\n    for c in reversed(range(b)):\n        return sorted(zip([c], [d for d in range(b)]))\n"
         self.assertEqual(wrong_in(source, lambda module, names: False), [])
 
 

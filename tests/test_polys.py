@@ -80,7 +80,8 @@ class IsPolynomialTest(unittest.TestCase):
                 self.assertIs(is_polynomial(thing), False)
 
     def test_what_is_no_list(self):
-        things = (True, False, None, 0, 1, -7, 10 ** 999, "", "1", "[1]", "x" * 2000, (), (1,), (0, 1), ([1],), nested(12))
+        things = (
+            True, False, None, 0, 1, -7, 10 ** 999, "", "1", "[1]", "x" * 2000, (), (1,), (0, 1), ([1],), nested(12))
         for place, thing in enumerate(things):
             with self.subTest(place=place):
                 self.assertIs(is_polynomial(thing), False)
