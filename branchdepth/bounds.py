@@ -2,7 +2,7 @@
 
 from branchdepth.errors import NoPolynomial, NoPrime, NotPlain, TooDeep
 from branchdepth.plains import discriminant
-from branchdepth.polys import is_polynomial
+from branchdepth.polys import is_monic
 from branchdepth.sizes import is_prime, is_whole, size_of_number
 
 MOST_DEGREE = 12
@@ -16,7 +16,7 @@ MOST_BASIS_SIZE = 24
 
 def is_bounded_monic(thing):
     """Whether any thing is a monic polynomial of degree 1 to 12."""
-    return is_polynomial(thing) and 2 <= len(thing) <= MOST_DEGREE + 1 and thing[-1] == 1
+    return is_monic(thing) and 2 <= len(thing) <= MOST_DEGREE + 1
 
 
 def plain_size(f, p):

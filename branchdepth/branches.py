@@ -3,6 +3,7 @@
 from branchdepth.errors import NoSize
 from branchdepth.fractions import least, minus, plus, times
 from branchdepth.polys import digits, least_size
+from branchdepth.storeys import Ground, Storey
 from branchdepth.towers import Tower
 
 
@@ -29,6 +30,12 @@ def ahead_of(kind):
     return (p, first, steps[:-1])
 
 
+def with_step(kind, step):
+    """A branch with one more step behind those that it has."""
+    p, first, steps = kind
+    return (p, first, steps + [step])
+
+
 def numbers_of(kind):
     """The product of all e, and the product of the degrees of first and all parts."""
     p, first, steps = kind
@@ -41,10 +48,24 @@ def degree_of(kind):
     return product_of(numbers_of(kind))
 
 
+def turn_of(kind, u):
+    """The e of a size u behind a branch: how often it is taken to be a size that there is by the branch."""
+    return times(u, (numbers_of(kind)[0], 1))[1]
+
+
 def tower_of(kind):
     """The tower of a branch."""
     p, first, steps = kind
     return Tower(p, [first] + [part for key, size, part in steps])
+
+
+def storey_of(kind):
+    """The uppermost storey of a branch's tower, whose parts are known to make one: they are not looked through."""
+    p, first, steps = kind
+    top = Storey(Ground(p), first)
+    for key, size, part in steps:
+        top = Storey(top, part)
+    return top
 
 
 def size_by(kind, f):

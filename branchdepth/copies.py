@@ -2,7 +2,9 @@
 
 
 def copied(thing):
-    """A list with all lists within it anew; what is no list stays."""
+    """A list or a tuple with all lists within it anew; what is neither stays."""
     if isinstance(thing, list):
         return [copied(inner) for inner in thing]
+    if isinstance(thing, tuple):
+        return tuple([copied(inner) for inner in thing])
     return thing

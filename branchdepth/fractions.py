@@ -1,5 +1,7 @@
 """Fractions: tuples (top, bottom) in lowest terms, the bottom from 1 on; 0 is (0, 1)."""
 
+from branchdepth.sizes import is_whole
+
 
 def common_divisor(one, other):
     """The greatest whole number that divides both, from 0 on."""
@@ -17,6 +19,14 @@ def fraction(top, bottom):
         # A divisor below 0 turns both signs, so the top alone bears one.
         divisor = -divisor
     return (top // divisor, bottom // divisor)
+
+
+def is_fraction(thing):
+    """Whether any thing is a fraction."""
+    if not isinstance(thing, tuple) or len(thing) != 2:
+        return False
+    top, bottom = thing
+    return is_whole(top) and is_whole(bottom) and bottom > 0 and common_divisor(top, bottom) == 1
 
 
 def plus(u, v):

@@ -13,6 +13,11 @@ def is_polynomial(thing):
     return thing == [] or thing[-1] != 0
 
 
+def is_monic(thing):
+    """Whether any thing is a monic polynomial."""
+    return is_polynomial(thing) and thing != [] and thing[-1] == 1
+
+
 def without_noughts_behind(numbers):
     """The polynomial of these coefficients: noughts at the end are left out."""
     many = len(numbers)

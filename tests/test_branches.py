@@ -10,77 +10,17 @@ from fractions import Fraction
 from pathlib import Path
 
 import tower_samples as samples
+from branch_samples import (
+    ALL, WITH_A_FIRST_OF_DEGREE_TWO, WITH_FOUR_STEPS, WITH_GREAT_PARTS, WITH_STEPS_OF_DEGREE_ONE, WITH_THREE_STEPS,
+    drawn)
 from branchdepth.branches import degree_of, monomial, numbers_of, size_by, tower_of
 from branchdepth.errors import NoSize
 from branchdepth.plains import resultant
-from branchdepth.polys import added, multiplied, scaled
+from branchdepth.polys import added, multiplied
 from branchdepth.sizes import size_of_number
 from branchdepth.towers import Tower
 
 ROOT = Path(__file__).resolve().parent.parent
-
-
-def power(f, many):
-    told = [1]
-    for turn in range(many):
-        told = multiplied(told, f)
-    return told
-
-
-def branches_of(p, first, steps, keys, turns):
-    """The branches with none of the steps, one of them, and so on: each with a key of its own degree, and all e."""
-    return [((p, first, steps[:many]), keys[many], turns[:many]) for many in range(len(steps) + 1)]
-
-
-A2 = [2, 0, 1]
-A3 = [4, 4, 4, 0, 1]
-A4 = added(power(A3, 3), [256])
-WITH_FOUR_STEPS = branches_of(
-    2, [0, 1],
-    [([0, 1], (1, 2), [[1], [1]]), (A2, (5, 4), [[[1]], [[1]]]), (A3, (8, 3), [[[[1]]], [[[1]]]]),
-     (A4, (17, 2), [[[[[1]]]], [[[[1]]]]])],
-    [[0, 1], A2, A3, A4, added(A4, [0, 256])], [2, 2, 3, 1])
-
-B1 = [1, 0, 1]
-B2 = added(added(power(B1, 2), scaled(3, multiplied([2, 1], B1))), [9])
-WITH_GREAT_PARTS = branches_of(
-    3, B1,
-    [(B1, (1, 1), [[1, 0], [2, 1], [1, 0]]), (B2, (5, 2), [[[1, 0], [0, 0]], [[1, 0], [0, 0]]])],
-    [B1, B2, added(power(B2, 2), [243])], [1, 2])
-
-C1 = [1, 1]
-C2 = added(power(C1, 3), [5])
-C3 = added(power(C2, 2), scaled(25, C1))
-WITH_THREE_STEPS = branches_of(
-    5, C1,
-    [(C1, (1, 3), [[1], [1]]), (C2, (7, 6), [[[1]], [[1]]]), (C3, (5, 2), [[[[2]]], [[[0]]], [[[1]]]])],
-    [C1, C2, C3, added(power(C3, 2), [2 * 5 ** 5])], [3, 2, 1])
-
-D2 = [-47, 1]
-WITH_STEPS_OF_DEGREE_ONE = branches_of(
-    47, [0, 1], [([0, 1], (1, 1), [[46], [1]]), (D2, (3, 2), [[[1]], [[1]]])],
-    [[0, 1], D2, added(power(D2, 2), [47 ** 3])], [1, 2])
-
-E1 = [1, 1, 1]
-WITH_A_FIRST_OF_DEGREE_TWO = branches_of(
-    2, E1, [(E1, (1, 2), [[1, 0], [1, 0]])], [E1, added(power(E1, 2), [2])], [2])
-
-ALL = (WITH_FOUR_STEPS + WITH_GREAT_PARTS + WITH_THREE_STEPS + WITH_STEPS_OF_DEGREE_ONE
-       + WITH_A_FIRST_OF_DEGREE_TWO)
-
-
-def drawn(source, kind, degree):
-    """A polynomial of at most this degree, with the prime often in its numbers, or made of the keys."""
-    p, first, steps = kind
-    lower = [source.choice((0, 1, -1)) * source.randrange(1, 50) * p ** source.randrange(6) for place in range(degree)]
-    told = lower + [source.choice((1, -1)) * p ** source.randrange(4)]
-    keys = [key for key, size, part in steps if len(key) - 1 <= degree]
-    if keys and source.randrange(2):
-        key = source.choice(keys)
-        told = scaled(p ** source.randrange(4), power(key, source.randrange(1, degree // (len(key) - 1) + 1)))
-        more = scaled(p ** source.randrange(6), source.choice(keys))
-        told = added(told, source.choice(([], [p ** source.randrange(5)], more))) or [1]
-    return told
 
 
 def size_by_hand(kind, f):
