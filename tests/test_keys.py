@@ -343,8 +343,9 @@ class IsBranchTest(unittest.TestCase):
                 zero, one = tower.zero(), tower.one()
                 for other in (None, 1, "", [], [one], [zero], [zero, one], tuple(part), part + [zero],
                               part[:-1] + [zero], part[:-1] + [1], [1, 1], [None] + part[1:],
-                              [tuple(part[0])] + part[1:], [zero] + part[1:], [zero] + part, times_poly(tower, part, part), [one] * 30,
-                              part[:-1] + [True], [[one], [one]], [part[0] + part[0]] + part[1:]):
+                              [tuple(part[0])] + part[1:], [zero] + part[1:], [zero] + part,
+                              times_poly(tower, part, part), [one] * 30, part[:-1] + [True], [[one], [one]],
+                              [part[0] + part[0]] + part[1:]):
                     with self.subTest(kind=kind, at=at, other=other):
                         self.assertIs(is_branch(with_step_changed(kind, at, 2, other)), False)
         # By the rests of 3, xx + 2 is (x + 1)(x + 2).
