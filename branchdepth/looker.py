@@ -108,11 +108,12 @@ def all_stand_apart(some):
 def lets_by(f, p, thing):
     """Whether any thing is a list of leaves of any f by any p; refused are f and p out of bounds."""
     discriminant_size(f, p)
-    if not isinstance(thing, list):
+    # Degrees are from 1 on: of more leaves than the degree of f none needs to be looked at.
+    if not isinstance(thing, list) or len(thing) > len(f) - 1:
         return False
     for leaf in thing:
         if not is_leaf(f, p, leaf):
             return False
     degrees = [degree_of((p, first, steps_of(forks))) for first, forks in thing]
-    # Degrees are from 1 on, so a list of none doesn't come to that of f.
+    # A list of none doesn't come to the degree of f.
     return sum(degrees) == len(f) - 1 and all_stand_apart(thing)
